@@ -1,0 +1,1 @@
+"""Office procedures told as texts: cases are run by them, and the texts themselves are asked."""
