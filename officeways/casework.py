@@ -1,8 +1,8 @@
 """The calls about cases: open, paper, days, state and log."""
 
-from officeways.procedure import AGE, DAY_ENDS, FLAGS, MOST_PAPERS, STATE, first_configuration, step_of
-from officeways.records import CASES, Case, case_at, procedure_at
-from officeways.refusals import LogFull, NoSuchPart, check_range
+from officeways.procedure import AGE, DAY_ENDS, FLAGS, MOST_PAPERS, STATE, first_configuration, is_final, step_of
+from officeways.records import CASES, Case, case_at, check_case, procedure_at
+from officeways.refusals import LogFull, check_part, check_range
 
 MOST_TOLD = 50
 MOST_DAYS_AT_ONCE = 50
@@ -18,19 +18,18 @@ def move_case(procedure, case, move):
 
 
 def answer_open(records, number):
-    check_range(number, 0, CASES - 1)
+    check_case(number)
     procedure = procedure_at(records, 0)
     records.cases[number] = Case(first_configuration(procedure), [])
     return [0]
 
 
 def answer_paper(records, number, paper):
-    check_range(number, 0, CASES - 1)
+    check_case(number)
     check_range(paper, 0, MOST_PAPERS - 1)
     case = case_at(records, number)
     procedure = procedure_at(records, 0)
-    if paper >= len(procedure.papers):
-        raise NoSuchPart()
+    check_part(paper, procedure.papers)
     if len(case.told) >= MOST_TOLD:
         raise LogFull()
     step = move_case(procedure, case, paper + 1)
@@ -75,14 +74,13 @@ def answer_days(records, days):
 
 
 def answer_state(records, number):
-    check_range(number, 0, CASES - 1)
+    check_case(number)
     configuration = case_at(records, number).configuration
-    state = configuration[STATE]
-    final = 1 if procedure_at(records, 0).finals[state] else 0
-    return [state, configuration[AGE], final] + list(configuration[FLAGS])
+    final = 1 if is_final(procedure_at(records, 0), configuration) else 0
+    return [configuration[STATE], configuration[AGE], final] + list(configuration[FLAGS])
 
 
 def answer_log(records, number):
-    check_range(number, 0, CASES - 1)
+    check_case(number)
     told = case_at(records, number).told
     return [len(told)] + told

@@ -1,7 +1,9 @@
 """Where the calls on one object are handed in, one behind another in one list, and answered."""
 
 from officeways.casework import answer_days, answer_log, answer_open, answer_paper, answer_state
-from officeways.library import answer_reach, answer_shown, answer_sizes, answer_text
+from officeways.inquiry import answer_clash, answer_classes, answer_idle, answer_reach, answer_same, answer_stuck
+from officeways.library import answer_drop, answer_shown, answer_sizes, answer_text
+from officeways.outlook import answer_toward, answer_until, answer_waiting
 from officeways.records import Records
 from officeways.refusals import LogFull, NoSuchPart, NothingThere, NotRight, OutOfRange, TooMany
 
@@ -14,9 +16,18 @@ DAYS = 5
 STATE_NOW = 6
 LOG = 7
 REACH = 8
+STUCK = 9
+CLASH = 10
+IDLE = 11
+SAME = 12
+CLASSES = 13
+WAITING = 14
+UNTIL = 15
+TOWARD = 16
+DROP = 17
 
 # How many whole numbers each call has behind its own number, ahead of a row.
-NUMBERS_OF_CALLS = (1, 1, 1, 1, 2, 1, 1, 1, 2)
+NUMBERS_OF_CALLS = (1, 1, 1, 1, 2, 1, 1, 1, 2, 1, 1, 1, 0, 1, 1, 2, 2, 2)
 
 
 class Call:
@@ -31,8 +42,6 @@ class Call:
 
 def call_at(calls, at):
     number = calls[at]
-    if number >= len(NUMBERS_OF_CALLS):
-        raise NotImplementedError(f"call {number} is not written yet")
     end = at + 1 + NUMBERS_OF_CALLS[number]
     numbers = calls[at + 1:end]
     if number != TEXT:
@@ -42,7 +51,7 @@ def call_at(calls, at):
     return Call(number, numbers, calls[begin:row_end], row_end)
 
 
-def answer_about_place(records, call):
+def answer_about_text(records, call):
     place = call.numbers[0]
     if call.number == TEXT:
         return answer_text(records, place, call.row)
@@ -50,7 +59,7 @@ def answer_about_place(records, call):
         return answer_shown(records, place)
     if call.number == SIZES:
         return answer_sizes(records, place)
-    return answer_reach(records, place, call.numbers[1])
+    return answer_drop(records, place, call.numbers[1])
 
 
 def answer_about_case(records, call):
@@ -66,10 +75,38 @@ def answer_about_case(records, call):
     return answer_log(records, first)
 
 
+def answer_asking_text(records, call):
+    if call.number == SAME:
+        return answer_same(records)
+    place = call.numbers[0]
+    if call.number == REACH:
+        return answer_reach(records, place, call.numbers[1])
+    if call.number == STUCK:
+        return answer_stuck(records, place)
+    if call.number == CLASH:
+        return answer_clash(records, place)
+    if call.number == IDLE:
+        return answer_idle(records, place)
+    return answer_classes(records, place)
+
+
+def answer_asking_case(records, call):
+    case = call.numbers[0]
+    if call.number == WAITING:
+        return answer_waiting(records, case)
+    if call.number == UNTIL:
+        return answer_until(records, case, call.numbers[1])
+    return answer_toward(records, case, call.numbers[1])
+
+
 def answer_unrefused(records, call):
-    if call.number in (TEXT, SHOWN, SIZES, REACH):
-        return answer_about_place(records, call)
-    return answer_about_case(records, call)
+    if call.number in (TEXT, SHOWN, SIZES, DROP):
+        return answer_about_text(records, call)
+    if call.number in (OPEN, PAPER, DAYS, STATE_NOW, LOG):
+        return answer_about_case(records, call)
+    if call.number in (REACH, STUCK, CLASH, IDLE, SAME, CLASSES):
+        return answer_asking_text(records, call)
+    return answer_asking_case(records, call)
 
 
 def answer(records, call):

@@ -1,35 +1,39 @@
-"""The calls about a place: text, shown, sizes and reach."""
+"""The calls about the text in a place: text, shown, sizes and drop."""
 
-from officeways.procedure import MOST_STATES, first_configuration
+from officeways.procedure import MOST_RULES, without_rule
 from officeways.reading import procedure_of
-from officeways.records import PLACES, procedure_at, put_procedure
-from officeways.refusals import NoSuchPart, TooMany, check_range
-from officeways.ways import way_to_state, ways_from
+from officeways.records import check_place, procedure_at, put_procedure
+from officeways.refusals import TooMany, check_part, check_range
+from officeways.ways import ways_of
 from officeways.writing import one_form
 
 MOST_BYTE = 255
 MOST_CONFIGURATIONS = 100
 
 
-def answer_text(records, place, codes):
-    check_range(place, 0, PLACES - 1)
-    for code in codes:
-        check_range(code, 0, MOST_BYTE)
-    procedure = procedure_of(codes)
-    ways = ways_from(procedure, first_configuration(procedure))
-    if len(ways.reached) > MOST_CONFIGURATIONS:
+def put_if_not_too_many(records, place, procedure):
+    """Put the procedure in the place; gives back what text and drop answer."""
+    count = len(ways_of(procedure).reached)
+    if count > MOST_CONFIGURATIONS:
         raise TooMany()
     put_procedure(records, place, procedure)
-    return [len(procedure.rules), len(ways.reached)]
+    return [len(procedure.rules), count]
+
+
+def answer_text(records, place, codes):
+    check_place(place)
+    for code in codes:
+        check_range(code, 0, MOST_BYTE)
+    return put_if_not_too_many(records, place, procedure_of(codes))
 
 
 def answer_shown(records, place):
-    check_range(place, 0, PLACES - 1)
+    check_place(place)
     return one_form(procedure_at(records, place))
 
 
 def answer_sizes(records, place):
-    check_range(place, 0, PLACES - 1)
+    check_place(place)
     procedure = procedure_at(records, place)
     return [
         len(procedure.states),
@@ -40,10 +44,9 @@ def answer_sizes(records, place):
     ]
 
 
-def answer_reach(records, place, state):
-    check_range(place, 0, PLACES - 1)
-    check_range(state, 0, MOST_STATES - 1)
+def answer_drop(records, place, number):
+    check_place(place)
+    check_range(number, 0, MOST_RULES - 1)
     procedure = procedure_at(records, place)
-    if state >= len(procedure.states):
-        raise NoSuchPart()
-    return way_to_state(ways_from(procedure, first_configuration(procedure)), state)
+    check_part(number, procedure.rules)
+    return put_if_not_too_many(records, place, without_rule(procedure, number))

@@ -54,8 +54,18 @@ class Step:
         self.rule_done = rule_done
 
 
+def without_rule(procedure, number):
+    """The procedure that is left when a rule is taken out."""
+    rules = procedure.rules[:number] + procedure.rules[number + 1:]
+    return Procedure(procedure.states, procedure.finals, procedure.papers, procedure.flags, rules)
+
+
 def first_configuration(procedure):
     return (0, 0, tuple([0 for name in procedure.flags]))
+
+
+def is_final(procedure, configuration):
+    return procedure.finals[configuration[STATE]]
 
 
 def condition_holds(condition, flags):
@@ -89,6 +99,11 @@ def rule_answers(rule, configuration, move):
     )
 
 
+def rules_answering(procedure, configuration, move):
+    """The numbers of all rules that answer the move."""
+    return [number for number, rule in enumerate(procedure.rules) if rule_answers(rule, configuration, move)]
+
+
 def first_answering(procedure, configuration, move):
     """The number of the first rule that answers the move, or None."""
     for number, rule in enumerate(procedure.rules):
@@ -104,7 +119,7 @@ def day_older(procedure, configuration):
 
 def step_of(procedure, configuration, move):
     """The Step that a move makes of a configuration."""
-    if procedure.finals[configuration[STATE]]:
+    if is_final(procedure, configuration):
         return Step(configuration, 0, None)
     number = first_answering(procedure, configuration, move)
     if number is not None:
@@ -114,3 +129,8 @@ def step_of(procedure, configuration, move):
     if move == DAY_ENDS:
         return Step(day_older(procedure, configuration), 0, None)
     return Step(configuration, 0, None)
+
+
+def steps_of(procedure, configuration):
+    """The Steps that all moves make of a configuration, in the order of the moves."""
+    return [step_of(procedure, configuration, move) for move in range(len(procedure.papers) + 1)]

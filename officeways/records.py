@@ -1,6 +1,6 @@
 """What one object keeps from call to call: the procedures in the places, and the open cases."""
 
-from officeways.refusals import NothingThere
+from officeways.refusals import NothingThere, check_range
 
 PLACES = 2
 CASES = 3
@@ -20,6 +20,14 @@ class Records:
     def __init__(self):
         self.procedures = [None] * PLACES
         self.cases = [None] * CASES
+
+
+def check_place(place):
+    check_range(place, 0, PLACES - 1)
+
+
+def check_case(number):
+    check_range(number, 0, CASES - 1)
 
 
 def procedure_at(records, place):

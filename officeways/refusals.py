@@ -1,4 +1,4 @@
-"""One error for each refusal, and the check that most calls begin with."""
+"""One error for each refusal, and the checks that most calls begin with."""
 
 
 class OutOfRange(Exception):
@@ -10,7 +10,7 @@ class LogFull(Exception):
 
 
 class NoSuchPart(Exception):
-    """The procedure hasn't as many papers, states or rules (-5)."""
+    """The procedure hasn't as many papers, states or rules, or two procedures haven't as many papers (-5)."""
 
 
 class NotRight(Exception):
@@ -29,3 +29,9 @@ def check_range(number, least, most):
     """Refuse a number that isn't one of least to most."""
     if number < least or number > most:
         raise OutOfRange()
+
+
+def check_part(number, parts):
+    """Refuse a number when there are no more parts than that."""
+    if number >= len(parts):
+        raise NoSuchPart()

@@ -18,6 +18,14 @@ EXAMPLE = (
 DAILY = "state a;paper p;paper q;from a after 1 to a tell 7;from a on p to a tell 3;"
 
 
+# Five states, four settings of the flags, ages 0 to 4: just 100 configurations.
+HUNDRED = (
+    "state a;state b;state c;state d;state e;final f;paper p;paper q;paper r;paper s;flag x;flag y;"
+    "from a on p within 3 to b;from a on p to b;from b on p to c;from c on p to d;from d on p to e;"
+    "from a on q to a then +x;from a on r to a then +y;"
+)
+
+
 def codes(text):
     return [ord(sign) for sign in text]
 
@@ -57,6 +65,42 @@ def log(c):
 
 def reach(k, s):
     return [8, k, s]
+
+
+def stuck(k):
+    return [9, k]
+
+
+def clash(k):
+    return [10, k]
+
+
+def idle(k):
+    return [11, k]
+
+
+def same():
+    return [12]
+
+
+def classes(k):
+    return [13, k]
+
+
+def waiting(c):
+    return [14, c]
+
+
+def until(c, i):
+    return [15, c, i]
+
+
+def toward(c, s):
+    return [16, c, s]
+
+
+def drop(k, i):
+    return [17, k, i]
 
 
 def taken_apart(given):

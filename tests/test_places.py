@@ -5,7 +5,8 @@ import unittest
 
 from officeways.desk import answers
 from tests.helper import (
-    DAILY, EXAMPLE, LEAST, MOST, ask, codes, days, last, open_case, paper, reach, shown, sizes, state, text,
+    DAILY, EXAMPLE, LEAST, MOST, ask, clash, classes, codes, days, drop, idle, last, log, open_case, paper, reach, same,
+    shown, sizes, state, stuck, taken_apart, text, toward, until, waiting,
 )
 
 OUT_OF_PLACES = (-1, 2, 3, 255, LEAST, MOST)
@@ -200,6 +201,14 @@ class Reach(unittest.TestCase):
         self.assertEqual(rows[2:], [[1, 0], codes(DAILY), [1, 2, 0, 2, 2], [0, 0, 0], [1, 0, 7]])
 
 
+# Each call once at least, and with an answer that is no refusal.
+EVERY_CALL = (
+    text(0, EXAMPLE) + text(1, EXAMPLE) + shown(0) + sizes(0) + open_case(0) + days(2) + waiting(0) + paper(0, 0)
+    + until(0, 1) + toward(0, 3) + state(0) + log(0) + reach(0, 3) + stuck(0) + clash(0) + idle(0) + same() + classes(0)
+    + drop(0, 1) + drop(1, 0) + same() + clash(1) + stuck(1) + idle(1)
+)
+
+
 class TheLists(unittest.TestCase):
 
     def test_counts_before_answers(self):
@@ -208,17 +217,22 @@ class TheLists(unittest.TestCase):
         self.assertEqual(answers(calls), expected)
 
     def test_kinds(self):
-        calls = text(0, EXAMPLE) + shown(0) + sizes(0) + open_case(0) + paper(0, 0) + state(0) + days(9) + reach(0, 3)
-        given = answers(calls)
+        given = answers(EVERY_CALL)
         self.assertIs(type(given), list)
         for number in given:
             self.assertIs(type(number), int)
 
+    def test_just_what_is_told(self):
+        self.assertEqual(taken_apart(answers(EVERY_CALL)), [
+            [3, 12], [3, 12], codes(EXAMPLE), [4, 2, 1, 3, 5], [0], [0], [1, 2], [1, 1], [1, 100], [1, 1, 2],
+            [1, 0, 0, 1], [1, 1], [1, 2, 1, 2], [0], [0], [0], [1], [6],
+            [2, 11], [2, 5], [0, 1, 1], [0], [0], [1, 1],
+        ])
+
     def test_nothing_is_kept(self):
-        calls = text(0, EXAMPLE) + open_case(0) + paper(0, 0) + state(0)
-        given = answers(calls)
-        self.assertEqual(answers(shown(0) + state(0) + days(1)), [1, -8, 1, -8, 1, -8])
-        self.assertEqual(answers(calls), given)
+        given = answers(EVERY_CALL)
+        self.assertEqual(answers(shown(0) + state(0) + days(1) + same() + classes(1)), [1, -8] * 5)
+        self.assertEqual(answers(EVERY_CALL), given)
 
     def test_what_is_given_back_is_new(self):
         calls = text(0, DAILY) + shown(0)
@@ -238,7 +252,7 @@ class TheLists(unittest.TestCase):
             __setitem__ = __delitem__ = __iadd__ = __imul__ = refuse
             append = extend = insert = pop = remove = clear = sort = reverse = refuse
 
-        calls = Guarded(text(0, EXAMPLE) + open_case(0) + days(2) + paper(0, 0) + shown(0) + reach(0, 3))
+        calls = Guarded(EVERY_CALL)
         self.assertEqual(answers(calls), answers(list(calls)))
 
 

@@ -3,18 +3,11 @@
 import unittest
 
 from tests.helper import (
-    DAILY, EXAMPLE, LEAST, MOST, ask, codes, days, last, log, open_case, paper, shown, sizes, state, text,
+    DAILY, EXAMPLE, HUNDRED, LEAST, MOST, ask, codes, days, last, log, open_case, paper, shown, sizes, state, text,
 )
 
 WORDS = "state final paper flag from on after within if to then tell".split()
 HEAD = "state a;state b;final z;paper p;paper q;flag x;flag y;"
-
-# Five states, four settings of the flags, ages 0 to 4: just 100 configurations.
-HUNDRED = (
-    "state a;state b;state c;state d;state e;final f;paper p;paper q;paper r;paper s;flag x;flag y;"
-    "from a on p within 3 to b;from a on p to b;from b on p to c;from c on p to d;from d on p to e;"
-    "from a on q to a then +x;from a on r to a then +y;"
-)
 
 
 class Cases(unittest.TestCase):
